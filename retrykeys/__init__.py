@@ -1,0 +1,1 @@
+"""Which steps of a workflow need protection against repetition."""

@@ -1,0 +1,71 @@
+"""The examples of the interface, as they stand in the document."""
+
+import doctest
+import unittest
+
+VALUES = """
+>>> counter = (((0, 0), (1, 1), (0, 0)), ((0, 0), (2, 2), (1, 1)), ((0, 0), (0, 0), (2, 2)))
+>>> workflow = (("call", 0, 0, "a"), ("call", 0, 1, "b"), ("return", "b"))
+"""
+
+EXAMPLES = [
+    """
+>>> from retrykeys.services import is_system
+>>> is_system((((0, 10),),))
+False
+""",
+    """
+>>> from retrykeys.services import execute
+>>> execute((((0, 0), (1, 1)), ((0, 0), (1, 5))), 1, 1)
+(1, 5)
+""",
+    """
+>>> from retrykeys.services import repeatable
+>>> repeatable(counter)
+[0, 2]
+""",
+    """
+>>> from retrykeys.workflows import plain
+>>> plain((counter,), workflow, (2,))
+((1,), 1)
+""",
+    """
+>>> from retrykeys.runs import initial_state, next_state
+>>> next_state((counter,), workflow, ((1,), (0,)), initial_state((counter,), workflow, (2,)), ("do",))
+((0,), (), 1, (('a', 0), ('b', 0)), (1, (('a', 0), ('b', 0))), (0,), None)
+""",
+    """
+>>> from retrykeys.deciding import decide
+>>> decide((counter,), workflow, ((), (0,)), [(2,)], ("fall",)).events
+[('do',), ('cut',), ('do',), ('do',)]
+""",
+    """
+>>> from retrykeys.deciding import tolerance
+>>> tolerance((counter,), workflow, ((), (0,)), [(2,)], ("fall",))
+0
+""",
+    """
+>>> from retrykeys.families import sufficient_protections
+>>> sufficient_protections((counter,), workflow, [(2,)], ("fall",))[:4]
+[((), ()), ((), (1,)), ((0, 1), ()), ((1,), (0,))]
+""",
+    """
+>>> from retrykeys.families import robust_protections
+>>> robust_protections((counter,), workflow, [(2,)], ("fall",))[:2]
+[((0, 1), ()), ((1,), (0,))]
+""",
+]
+
+
+class Examples(unittest.TestCase):
+    def test_examples(self):
+        for example in EXAMPLES:
+            found = doctest.DocTestParser().get_doctest(VALUES + example, {}, "example", None, 0)
+            report = []
+            result = doctest.DocTestRunner().run(found, out=report.append)
+            self.assertEqual((result.failed, "".join(report)), (0, ""))
+            self.assertGreaterEqual(result.attempted, 4)
+
+
+if __name__ == "__main__":
+    unittest.main()
