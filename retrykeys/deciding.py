@@ -13,40 +13,39 @@ def check_decision(system, workflow, protection, situations, faults):
     check_faults(faults)
 
 
-def is_wrong(state, right):
-    """Tell whether the client has returned in a state, and the outcome is not the right one."""
-    return state[2] is None and (state[0], state[6]) != right
-
-
 class Search:
-    """The states to which runs from a situation lead, each with the event that led there first."""
+    """The states to which runs from a situation lead, each with the event that led there first.
+
+    The states and events are those of a machine: an object that tells the initial state, the steps from a state,
+    and whether a state is a target.
+    """
 
     def __init__(self, machine, situation, faults):
         first = machine.initial(situation)
         self.machine = machine
         self.situation = situation
         self.faults = faults
-        self.right = machine.right_outcome(situation)
         self.before = {first: None}
         self.edge = [first]
-        self.wrong = None
 
     def reach(self, states, faults):
         """Apply one more event to each of the states, and return the new states that this reaches."""
         found = []
         for state in states:
-            for event in self.machine.moves(state, faults):
-                reached = self.machine.after(state, event)
+            for event, reached in self.machine.steps(state, faults):
                 if reached not in self.before:
                     self.before[reached] = (state, event)
                     found.append(reached)
-                    if self.wrong is None and is_wrong(reached, self.right):
-                        self.wrong = reached
         return found
 
     def widen(self):
         """Go from the edge to the states that are one event further."""
         self.edge = self.reach(self.edge, self.faults)
+
+    def exhaust(self):
+        """Go on to all states to which runs lead."""
+        while self.edge:
+            self.widen()
 
     def settle(self):
         """Add to the edge the states that need no further fault."""
@@ -60,38 +59,23 @@ class Search:
         self.widen()
         self.settle()
 
-    def bad_run(self):
-        """Return the situation, and the events that led to the bad state."""
+    def run(self):
+        """Return the situation and the events that led to a target on the edge, or None if there is none."""
+        for state in self.edge:
+            if self.machine.is_target(state, self.situation):
+                return self.situation, self.events_to(state)
+        return None
+
+    def events_to(self, state):
+        """Return the events that led to a state first."""
         events = []
-        link = self.before[self.wrong]
+        link = self.before[state]
         while link is not None:
             state, event = link
             events.append(event)
             link = self.before[state]
         events.reverse()
-        return self.situation, events
-
-
-def shortest_bad_run(searches):
-    """Return a situation and the events of a bad run of the least length, or None if no run is bad."""
-    while any([search.edge for search in searches]):
-        for search in searches:
-            search.widen()
-            if search.wrong is not None:
-                return search.bad_run()
-    return None
-
-
-def rarest_bad_run(searches):
-    """Return a situation and the events of a bad run with the fewest faults, or None if no run is bad."""
-    for search in searches:
-        search.settle()
-    while any([search.edge for search in searches]):
-        for search in searches:
-            search.strike()
-            if search.wrong is not None:
-                return search.bad_run()
-    return None
+        return events
 
 
 def searches_for(machine, situations, faults):
@@ -99,34 +83,84 @@ def searches_for(machine, situations, faults):
     return [Search(machine, situation, faults) for situation in situations]
 
 
-def is_bad_run(machine, situation, faults, events):
-    """Tell whether events are possible, one after the other, and lead to a bad state on their way."""
-    right = machine.right_outcome(situation)
+def first_run(searches):
+    """Return the run to a target on the edge of one of the searches, or None if there is none."""
+    for search in searches:
+        found = search.run()
+        if found is not None:
+            return found
+    return None
+
+
+def nearest_run(searches):
+    """Return a run to a target with the fewest events, or None, after a search of all states, if there is none."""
+    while any([search.edge for search in searches]):
+        found = first_run(searches)
+        if found is not None:
+            return found
+        for search in searches:
+            search.widen()
+    return None
+
+
+def rarest_run(searches):
+    """Return a run to a target with the fewest faults, or None if there is none."""
+    for search in searches:
+        search.settle()
+    while any([search.edge for search in searches]):
+        found = first_run(searches)
+        if found is not None:
+            return found
+        for search in searches:
+            search.strike()
+    return None
+
+
+def shortest_run(machine, situations, faults):
+    """Return a run to a target with the fewest events: a situation and the events, or None if there is none."""
+    return nearest_run(searches_for(machine, situations, faults))
+
+
+def hits(machine, situation, faults, events):
+    """Tell whether events are possible, one after the other, and lead to a target on their way."""
     state = machine.initial(situation)
-    bad = False
+    hit = machine.is_target(state, situation)
     for event in events:
-        if not machine.allows(state, faults, event):
+        state = machine.attempt(state, faults, event)
+        if state is None:
             return False
-        state = machine.after(state, event)
-        bad = bad or is_wrong(state, right)
-    return bad
+        hit = hit or machine.is_target(state, situation)
+    return hit
+
+
+def is_shortest(machine, situations, faults, situation, events):
+    """Tell whether events from one of the situations lead to a target, and no fewer ones do."""
+    if situation not in situations or not hits(machine, situation, faults, events):
+        return False
+    return len(shortest_run(machine, situations, faults)[1]) == len(events)
 
 
 def is_closed(machine, situation, faults, states):
-    """Tell whether states contain the initial one and what events lead to, and have right outcomes."""
+    """Tell whether states contain the initial one and what events lead to, and no target."""
     if not all([machine.is_state(state) for state in states]):
         return False
     known = {state: True for state in states}
     if machine.initial(situation) not in known:
         return False
-    right = machine.right_outcome(situation)
     for state in known:
-        if is_wrong(state, right):
+        if machine.is_target(state, situation):
             return False
-        for event in machine.moves(state, faults):
-            if machine.after(state, event) not in known:
+        for _, reached in machine.steps(state, faults):
+            if reached not in known:
                 return False
     return True
+
+
+def are_closed(machine, situations, faults, rows):
+    """Tell whether there is a closed list of states for each of the situations."""
+    if len(rows) != len(situations):
+        return False
+    return all([is_closed(machine, situation, faults, states) for situation, states in zip(situations, rows)])
 
 
 class Sufficient:
@@ -141,13 +175,7 @@ class Sufficient:
     def is_correct(self, system, workflow, protection, situations, faults):
         """Return whether the current lists are a correct result of `decide`."""
         check_decision(system, workflow, protection, situations, faults)
-        if len(self.states) != len(situations):
-            return False
-        machine = Machine(system, workflow, protection)
-        for situation, states in zip(situations, self.states):
-            if not is_closed(machine, situation, faults, states):
-                return False
-        return True
+        return are_closed(Machine(system, workflow, protection), situations, faults, self.states)
 
 
 class Insufficient:
@@ -166,17 +194,14 @@ class Insufficient:
         """Return whether the current run is a correct result of `decide`."""
         check_decision(system, workflow, protection, situations, faults)
         machine = Machine(system, workflow, protection)
-        if self.situation not in situations or not is_bad_run(machine, self.situation, faults, self.events):
-            return False
-        shortest = shortest_bad_run(searches_for(machine, situations, faults))
-        return shortest is not None and len(shortest[1]) == len(self.events)
+        return is_shortest(machine, situations, faults, self.situation, self.events)
 
 
 def decide(system, workflow, protection, situations, faults):
     """Return a Sufficient or an Insufficient for a protection."""
     check_decision(system, workflow, protection, situations, faults)
     searches = searches_for(Machine(system, workflow, protection), situations, faults)
-    found = shortest_bad_run(searches)
+    found = nearest_run(searches)
     if found is None:
         return Sufficient([list(search.before) for search in searches])
     situation, events = found
@@ -186,7 +211,7 @@ def decide(system, workflow, protection, situations, faults):
 def weakest(system, workflow, protection, situations, faults):
     """Return a situation and the events of a bad run with the fewest faults, or None if no run is bad."""
     check_decision(system, workflow, protection, situations, faults)
-    return rarest_bad_run(searches_for(Machine(system, workflow, protection), situations, faults))
+    return rarest_run(searches_for(Machine(system, workflow, protection), situations, faults))
 
 
 def tolerance(system, workflow, protection, situations, faults):

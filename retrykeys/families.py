@@ -2,23 +2,16 @@
 
 from itertools import combinations
 
-from retrykeys.deciding import is_bad_run, searches_for, shortest_bad_run
-from retrykeys.errors import TooLarge
+from retrykeys.deciding import hits, shortest_run
 from retrykeys.runs import Machine, check_faults
 from retrykeys.services import check_situations
-from retrykeys.workflows import calls_of, check_alone, check_workflow
-
-
-def check_size(workflow):
-    """Raise TooLarge if a workflow has more than 3 call steps."""
-    if len(calls_of(workflow)) > 3:
-        raise TooLarge("more than 3 call steps")
+from retrykeys.workflows import calls_of, check_alone, check_size, check_workflow
 
 
 def check_family(system, workflow, situations, faults):
     """Raise the errors of the arguments of a family."""
     check_workflow(system, workflow)
-    check_size(workflow)
+    check_size(workflow, 3)
     check_situations(system, situations)
     check_faults(faults)
 
@@ -53,7 +46,7 @@ def all_protections(workflow):
 def is_refuted(machine, faults, runs):
     """Tell whether one of the runs, pairs of a situation and events, is possible and bad."""
     for situation, events in runs:
-        if is_bad_run(machine, situation, faults, events):
+        if hits(machine, situation, faults, events):
             return True
     return False
 
@@ -67,7 +60,7 @@ def judged(system, workflow, situations, faults):
         # A run that is bad with one protection is often bad with others, and quicker to try than to find.
         if is_refuted(machine, faults, runs):
             continue
-        found = shortest_bad_run(searches_for(machine, situations, faults))
+        found = shortest_run(machine, situations, faults)
         if found is None:
             sufficient.append(protection)
         else:
@@ -78,7 +71,7 @@ def judged(system, workflow, situations, faults):
 def protections(workflow):
     """Return the list of all protections of a workflow, in their order."""
     check_alone(workflow)
-    check_size(workflow)
+    check_size(workflow, 3)
     return all_protections(workflow)
 
 

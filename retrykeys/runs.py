@@ -69,15 +69,22 @@ class Machine:
         self.workflow = workflow
         self.keyed, self.checked = protection
         self.names = names_of(workflow)
+        self.rights = {}
 
     def initial(self, situation):
         """Return the initial state of a run from a situation."""
         zeros = tuple([(name, 0) for name in self.names])
         return situation, (), 0, zeros, (0, zeros), (), None
 
-    def right_outcome(self, situation):
+    def right_from(self, start):
         """Return the correct outcome of the runs from a situation."""
-        return plain_outcome(self.system, self.workflow, situation)
+        if start not in self.rights:
+            self.rights[start] = plain_outcome(self.system, self.workflow, start)
+        return self.rights[start]
+
+    def is_target(self, state, start):
+        """Tell whether a state of a run from a situation is bad: whether it has an outcome that is not correct."""
+        return state[2] is None and (state[0], state[6]) != self.right_from(start)
 
     def is_state(self, value):
         """Tell whether any value has the form of a state of a run."""
@@ -118,9 +125,15 @@ class Machine:
             found.append(("lose",))
         return found
 
-    def allows(self, state, faults, value):
-        """Tell whether any value is an event that is possible in a state with a set of faults."""
-        return is_event(value) and value in self.moves(state, faults)
+    def steps(self, state, faults):
+        """Return the pairs of an event that is possible in a state with a set of faults, and the state after it."""
+        return [(event, self.after(state, event)) for event in self.moves(state, faults)]
+
+    def attempt(self, state, faults, value):
+        """Return the state after any value, or None if it is not an event that is possible with a set of faults."""
+        if not is_event(value) or value not in self.moves(state, faults):
+            return None
+        return self.after(state, value)
 
     def after(self, state, event):
         """Return the state after an event that is possible."""
@@ -184,7 +197,7 @@ def next_state(system, workflow, protection, state, event):
     check_protection(workflow, protection)
     machine = Machine(system, workflow, protection)
     check_state(machine, state)
-    return machine.after(state, event) if machine.allows(state, FAULTS, event) else None
+    return machine.attempt(state, FAULTS, event)
 
 
 def possible_events(system, workflow, protection, faults, state):
@@ -207,7 +220,8 @@ def replay(system, workflow, protection, situation, events):
     machine = Machine(system, workflow, protection)
     states = [machine.initial(situation)]
     for index, event in enumerate(events):
-        if not machine.allows(states[index], FAULTS, event):
+        state = machine.attempt(states[index], FAULTS, event)
+        if state is None:
             raise InvalidEvent(index)
-        states.append(machine.after(states[index], event))
+        states.append(state)
     return states

@@ -1,6 +1,6 @@
 """Workflows, their plain execution, and their calm steps."""
 
-from retrykeys.errors import InvalidWorkflow
+from retrykeys.errors import InvalidWorkflow, TooLarge
 from retrykeys.services import check_situation, check_system, commutes, repeats
 from retrykeys.shapes import is_answer, is_index, is_tuple
 
@@ -75,6 +75,12 @@ def check_workflow(system, workflow):
     check_alone(workflow)
     if not fits(system, workflow):
         raise InvalidWorkflow("the system does not have a service or a call of the workflow")
+
+
+def check_size(workflow, most):
+    """Raise TooLarge if a workflow has more than so many call steps."""
+    if len(calls_of(workflow)) > most:
+        raise TooLarge(f"more than {most} call steps")
 
 
 def call_steps(workflow):

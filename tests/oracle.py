@@ -1,7 +1,8 @@
-"""An independent, slow implementation of points 2 to 13, written from the document alone.
+"""An independent, slow implementation of points 2 to 18, written from the document alone.
 
 It keeps a run in mutable dicts and sets, tries every thinkable event in every state, and finds
-distances with Dijkstra's algorithm over the explored graph.
+distances with Dijkstra's algorithm over the explored graph. Two clients are two such runs that
+share the states of the services; the states behind a record are found by repeated marking.
 """
 
 import heapq
@@ -277,3 +278,170 @@ def families(system, workflow, situations, faults):
             if p in good and q in bad and parts(p) < parts(q) and len(parts(q) - parts(p)) == 1:
                 broken.append((p, q))
     return good, minimal, robust, broken
+
+
+def price(workflow, protection, weights):
+    """The cost of a protection, part by part."""
+    total = 0
+    for kind, step in parts(protection):
+        total += weights[0 if kind == "key" else 1][calls(workflow).index(step)]
+    return total
+
+
+def cheapest(system, workflow, situations, faults, weights, containing):
+    """The cheapest protection, its cost, and those that contain the given one and cost less."""
+    options = [p for p in protections(workflow) if parts(p) >= parts(containing)]
+    good = [p for p in options if shortest(system, workflow, p, situations, faults) is None]
+    least_price = min(price(workflow, p, weights) for p in good)
+    best = [p for p in good if price(workflow, p, weights) == least_price][0]
+    return best, least_price, [p for p in options if price(workflow, p, weights) < least_price]
+
+
+class Joint:
+    """Two runs that share the states of the services."""
+
+    def __init__(self, system, workflows, protections, situation=None, state=None):
+        self.runs = []
+        for client in (0, 1):
+            whole = None if state is None else (state[0],) + state[1 + client]
+            self.runs.append(Run(system, workflows[client], protections[client], situation, whole))
+        self.runs[1].services = self.runs[0].services
+
+    def freeze(self):
+        first, second = (run.freeze() for run in self.runs)
+        assert first[0] == second[0]
+        return first[0], first[1:], second[1:]
+
+
+JOINT_EVENTS = [(client, event) for client in (0, 1) for event in EVENTS]
+
+
+def joint_step(system, workflows, protections, state, event):
+    """The joint state after an event, or None."""
+    joint = Joint(system, workflows, protections, state=state)
+    return joint.freeze() if joint.runs[event[0]].apply(event[1]) else None
+
+
+def joint_moves(system, workflows, protections, faults, state):
+    """A dict from the possible joint events to the joint states after them."""
+    found = {}
+    for event in JOINT_EVENTS:
+        if allowed(event[1], faults):
+            after = joint_step(system, workflows, protections, state, event)
+            if after is not None:
+                found[event] = after
+    return found
+
+
+def joint_graph(system, workflows, protections, situation, faults):
+    """The first joint state, and all reachable ones with the joint states after them."""
+    first = Joint(system, workflows, protections, situation).freeze()
+    graph, waiting = {}, [first]
+    while waiting:
+        state = waiting.pop()
+        if state not in graph:
+            graph[state] = list(joint_moves(system, workflows, protections, faults, state).values())
+            waiting.extend(graph[state])
+    return first, graph
+
+
+def is_bad_joint(system, workflows, situation, state):
+    """Whether both clients have returned, and no order of the workflows leads to this."""
+    if state[1][1] is not None or state[2][1] is not None:
+        return False
+    for order in ((0, 1), (1, 0)):
+        services, results = situation, {}
+        for client in order:
+            services, results[client] = plain(system, workflows[client], services)
+        if (services, results[0], results[1]) == (state[0], state[1][5], state[2][5]):
+            return False
+    return True
+
+
+def joint_shortest(system, workflows, protections, situations, faults):
+    """The number of events of a shortest bad joint run, or None."""
+    lengths = []
+    for situation in situations:
+        first, graph = joint_graph(system, workflows, protections, situation, faults)
+        distance = {state: 0 if state == first else len(graph) for state in graph}
+        waiting = [first]
+        for state in waiting:
+            for after in graph[state]:
+                if distance[after] > distance[state] + 1:
+                    distance[after] = distance[state] + 1
+                    waiting.append(after)
+        lengths.extend(distance[state] for state in graph if is_bad_joint(system, workflows, situation, state))
+    return min(lengths, default=None)
+
+
+def is_bad_joint_run(system, workflows, protections, situation, events, faults):
+    """Whether a joint run is possible and bad."""
+    state = Joint(system, workflows, protections, situation).freeze()
+    bad = False
+    for event in events:
+        if event not in JOINT_EVENTS or not allowed(event[1], faults):
+            return False
+        state = joint_step(system, workflows, protections, state, event)
+        if state is None:
+            return False
+        bad = bad or is_bad_joint(system, workflows, situation, state)
+    return bad
+
+
+def written(workflow, state, event, after):
+    """The entries that an event writes: a list of one or none."""
+    kind = "late" if event[0] == "late" else (event[0], workflow[state[2]][0])
+    if kind == ("do", "call"):
+        return [("answer", state[2], dict(after[3])[workflow[state[2]][3]])]
+    if kind == ("do", "return"):
+        return [("return", after[6])]
+    if kind == ("lose", "call"):
+        return [("timeout", state[2])]
+    return [("fall",)] if kind[0] in ("cut", "fall") else []
+
+
+def record(system, workflow, protection, situation, events):
+    """The record of a run that is possible."""
+    states = follow(system, workflow, protection, situation, events)
+    entries = []
+    for index, event in enumerate(events):
+        entries += written(workflow, states[index], event, states[index + 1])
+    return entries
+
+
+def explained(system, workflow, protection, situation, faults, entries):
+    """For each number of entries, a dict from the states in which exactly these are written to the fewest events."""
+    first, graph = explore(system, workflow, protection, situation, faults)
+    levels = [{} for _ in range(len(entries) + 1)]
+    levels[0][first] = 0
+    for many, level in enumerate(levels):
+        changed = True
+        while changed:
+            changed = False
+            for state in list(level):
+                for event, after in graph[state].items():
+                    if not written(workflow, state, event, after) and level[state] + 1 < level.get(after, 10 ** 9):
+                        level[after] = level[state] + 1
+                        changed = True
+        if many < len(entries):
+            for state in level:
+                for event, after in graph[state].items():
+                    if written(workflow, state, event, after) == [entries[many]]:
+                        known = levels[many + 1].get(after, 10 ** 9)
+                        levels[many + 1][after] = min(known, level[state] + 1)
+    return levels
+
+
+def examination(system, workflow, protection, situations, faults, entries):
+    """The fewest events of an explanation or None, the number of entries that are explained, the states behind them."""
+    tables = [explained(system, workflow, protection, s, faults, entries) for s in situations]
+    many = max(k for k in range(len(entries) + 1) if any(levels[k] for levels in tables))
+    fewest = min((events for levels in tables for events in levels[-1].values()), default=None)
+    return fewest, many, [set(levels[many]) for levels in tables]
+
+
+def explains(system, workflow, protection, situation, events, faults, entries):
+    """Whether a run is possible and writes exactly these entries."""
+    if follow(system, workflow, protection, situation, events, faults) is None:
+        return False
+    return record(system, workflow, protection, situation, events) == list(entries)

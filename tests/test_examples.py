@@ -54,6 +54,29 @@ False
 >>> robust_protections((counter,), workflow, [(2,)], ("fall",))[:2]
 [((0, 1), ()), ((1,), (0,))]
 """,
+    """
+>>> from retrykeys.costs import cheapest
+>>> found = cheapest((counter,), workflow, [(2,)], ('loss',), ((3, 5), (1, 1)))
+>>> (found.protection, found.cost)
+(((1,), ()), 5)
+""",
+    """
+>>> from retrykeys.pairs import decide_pair
+>>> read = (('call', 0, 2, 'a'), ('call', 0, 1, 'b'), ('return', 'a'))
+>>> decide_pair((counter,), (read, read), (((), ()), ((), ())), [(0,)], ()).situation
+(0,)
+""",
+    """
+>>> from retrykeys.records import possible_situations
+>>> record = [('timeout', 0), ('answer', 0, 0), ('fall',)]
+>>> possible_situations((counter,), workflow, ((), (0,)), [(2,)], ('fall', 'loss'), record)
+[(0,), (1,)]
+""",
+    """
+>>> from retrykeys.records import examine
+>>> examine((counter,), workflow, ((), ()), [(2,)], ('fall',), [('answer', 0, 0), ('answer', 1, 2)]).index
+1
+""",
 ]
 
 

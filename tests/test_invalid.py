@@ -4,10 +4,13 @@ import itertools
 import unittest
 
 from retrykeys import errors
+from retrykeys.costs import Cheapest, cheapest, protection_cost
 from retrykeys.deciding import Insufficient, Sufficient, decide, tolerance, weakest
 from retrykeys.families import (
     Family, breaches, family, minimal_protections, protections, robust_protections, sufficient_protections,
 )
+from retrykeys.pairs import Interfering, Isolated, decide_pair, initial_joint, next_joint
+from retrykeys.records import Explained, Unexplained, examine, possible_situations, record_of
 from retrykeys.runs import initial_state, next_state, possible_events, replay
 from retrykeys.services import commuting, execute, repeatable
 from retrykeys.workflows import call_steps, calm_steps, plain
@@ -31,7 +34,23 @@ SITUATION = ("InvalidSituation", (2,), wrong.situations(SYSTEM))
 SITUATIONS = ("InvalidSituation", [(2,), (0,)], wrong.situation_lists(SYSTEM))
 FAULTS = ("InvalidFaults", ("fall", "loss"), wrong.FAULTS)
 STATES = ("InvalidState", STATE, wrong.states(STATE))
+WEIGHTS = ("InvalidWeights", ((0, 1000), (7, 0)), wrong.WEIGHTS)
+RECORDS = ("InvalidRecord", [("timeout", 0), ("answer", 1, 9), ("return", 0), ("fall",)], wrong.RECORDS)
 EVENT_LISTS = ("InvalidEvent", [("do",)], [None, 0, "", "do", {}, ("do",), [("late", 0)], [None], [["do"]]])
+
+READ = (("call", 0, 2, "a"), END)
+INCREASE = (("call", 0, 1, "a"), END)
+THREE_CALLS = FOUR_CALLS[1:]
+NO_PAIRS = wrong.ANYTHING + [[READ, INCREASE], (READ,), (READ, INCREASE, READ), {0: READ, 1: INCREASE}, READ]
+JOINT = ((2,), ((), 0, (("a", 7),), (1, (("a", 9),)), (0,), None), (((0, 3),), 1, (("a", 0),), (0, (("a", 5),)), (), None))
+PAIRS_OF_WORKFLOWS = ("InvalidWorkflow", (READ, INCREASE), NO_PAIRS + [(READ, THREE_CALLS, READ)] + [
+    pair for bad in WRONG_WORKFLOWS for pair in ((READ, bad), (bad, INCREASE))
+] + [(THREE_CALLS, WRONG_WORKFLOWS[0]), (WRONG_WORKFLOWS[0], THREE_CALLS)])
+LARGE_PAIRS = ("TooLarge", (READ, INCREASE), [(THREE_CALLS, READ), (READ, THREE_CALLS), (FOUR_CALLS, FOUR_CALLS)])
+PAIRS_OF_PROTECTIONS = ("InvalidProtection", (((), (0,)), ((0,), ())), wrong.ANYTHING + [
+    [((), ()), ((), ())], (((), ()),), (((), ()),) * 3, {0: ((), ()), 1: ((), ())}, ((), ()),
+] + [pair for bad in wrong.protections([0], 2) for pair in ((((), ()), bad), (bad, ((), ())))])
+JOINT_STATES = ("InvalidState", JOINT, wrong.joint_states(JOINT))
 
 # For each function: the arguments, in the order of the checks, each with its place among the parameters.
 # An argument may be checked twice (a workflow may be invalid, or too large).
@@ -44,6 +63,11 @@ FUNCTIONS = {
     possible_events: [(0, SYSTEMS), (1, WORKFLOWS), (2, PROTECTIONS), (3, FAULTS), (4, STATES)],
     replay: [(0, SYSTEMS), (1, WORKFLOWS), (2, PROTECTIONS), (3, SITUATION), (4, EVENT_LISTS)],
     protections: [(0, LONE_WORKFLOWS), (0, LARGE)],
+    protection_cost: [(0, LONE_WORKFLOWS), (1, PROTECTIONS), (2, WEIGHTS)],
+    initial_joint: [(0, SYSTEMS), (1, PAIRS_OF_WORKFLOWS), (1, LARGE_PAIRS), (2, SITUATION)],
+    next_joint: [(0, SYSTEMS), (1, PAIRS_OF_WORKFLOWS), (1, LARGE_PAIRS), (2, PAIRS_OF_PROTECTIONS),
+                 (3, JOINT_STATES), (4, (None, (0, ("do",)), wrong.EVENTS))],
+    record_of: [(0, SYSTEMS), (1, WORKFLOWS), (2, PROTECTIONS), (3, SITUATION), (4, EVENT_LISTS)],
 }
 DECISION = [(0, SYSTEMS), (1, WORKFLOWS), (2, PROTECTIONS), (3, SITUATIONS), (4, FAULTS)]
 SUFFICIENT = Sufficient([[STATE]])
@@ -62,6 +86,40 @@ def family_is_correct(*arguments):
     return Family([((), ())], [((2,), [("do",)])]).is_correct(*arguments)
 
 
+def cheapest_that_contains(*arguments):
+    return cheapest(*arguments[:5], containing=arguments[5])
+
+
+def cheapest_is_correct(*arguments):
+    return Cheapest(((), ()), 0, [((2,), [("do",)])]).is_correct(*arguments[:5], containing=arguments[5])
+
+
+def isolated_is_correct(*arguments):
+    return Isolated([[JOINT]]).is_correct(*arguments)
+
+
+def interfering_is_correct(*arguments):
+    return Interfering((2,), [(0, ("do",))]).is_correct(*arguments)
+
+
+def explained_is_correct(*arguments):
+    return Explained((2,), [("do",)]).is_correct(*arguments)
+
+
+def unexplained_is_correct(*arguments):
+    return Unexplained(0, [[STATE]]).is_correct(*arguments)
+
+
+CHEAPEST = [(0, SYSTEMS), (1, WORKFLOWS), (1, LARGE), (2, SITUATIONS), (3, FAULTS), (4, WEIGHTS)]
+PAIR = [(0, SYSTEMS), (1, PAIRS_OF_WORKFLOWS), (1, LARGE_PAIRS), (2, PAIRS_OF_PROTECTIONS), (3, SITUATIONS), (4, FAULTS)]
+FUNCTIONS[cheapest] = CHEAPEST
+FUNCTIONS[Cheapest(((), ()), 0, []).is_correct] = CHEAPEST
+for function in (cheapest_that_contains, cheapest_is_correct):
+    FUNCTIONS[function] = CHEAPEST + [(5, PROTECTIONS)]
+for function in (decide_pair, isolated_is_correct, interfering_is_correct):
+    FUNCTIONS[function] = PAIR
+for function in (examine, possible_situations, explained_is_correct, unexplained_is_correct):
+    FUNCTIONS[function] = DECISION + [(5, RECORDS)]
 for function in (decide, weakest, tolerance, sufficient_is_correct, insufficient_is_correct):
     FUNCTIONS[function] = DECISION
 for function in (sufficient_protections, minimal_protections, robust_protections, breaches, family, family_is_correct):
@@ -107,8 +165,9 @@ class Wrong(unittest.TestCase):
         for function, checks in FUNCTIONS.items():
             for many in range(len(checks)):
                 arguments = good_arguments(checks)
-                for place, (_, _, values) in checks[many:]:
-                    arguments[place] = values[0] if values[0] is not FOUR_CALLS else arguments[place]
+                for place, (error, _, values) in checks[many:]:
+                    if error != "TooLarge":
+                        arguments[place] = values[0]
                 name = checks[many][1][0]
                 if name not in (None, "TooLarge"):
                     self.fails(name, function, arguments)

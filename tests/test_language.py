@@ -21,8 +21,15 @@ INTERFACE = {
         "protections", "sufficient_protections", "minimal_protections", "robust_protections", "breaches", "family",
         "Family",
     ],
+    "costs": ["protection_cost", "Cheapest", "cheapest"],
+    "pairs": ["initial_joint", "next_joint", "decide_pair", "Isolated", "Interfering"],
+    "records": ["record_of", "examine", "Explained", "Unexplained", "possible_situations"],
 }
-METHODS = {"Sufficient": ["is_correct"], "Insufficient": ["is_correct"], "Family": ["is_correct"]}
+METHODS = {
+    name: ["is_correct"] for name in [
+        "Sufficient", "Insufficient", "Family", "Cheapest", "Isolated", "Interfering", "Explained", "Unexplained",
+    ]
+}
 
 LIBRARY = {"itertools": ["combinations", "permutations", "product"]}
 BUILTINS = """
@@ -112,7 +119,9 @@ class Language(unittest.TestCase):
                     else:
                         package, _, module = node.module.partition(".")
                         self.assertEqual(package, "retrykeys")
-                        defined = [item.name for item in trees[module].body if hasattr(item, "name")]
+                        body = trees[module].body
+                        defined = [item.name for item in body if hasattr(item, "name")]
+                        defined += [item.targets[0].id for item in body if isinstance(item, ast.Assign)]
                         self.assertTrue(set(words) <= set(defined), (name, words))
                         seen[name].append(module)
         while seen:

@@ -156,6 +156,42 @@ EVENTS = [
 ]
 
 
+COSTS = [
+    None, True, 0, "", "ab", [], [0, 0], {}, (), (0,), (0, 0, 0), (0, -1), (0, 1001), (True, 0), (0, False), (0, None),
+    ("0", 0), ((0,), 0), (0, 10 ** 30), object(), Strange(), (Strange(), 0), (Strange(), Strange()), range(2), ([], 0),
+]
+
+# Values that are not weights of a workflow with two call steps.
+WEIGHTS = ANYTHING + [
+    [(0, 0), (0, 0)], ((0, 0),), ((0, 0), (0, 0), (0, 0)), {0: (0, 0), 1: (0, 0)}, (0, 0), ((0,), (0,)),
+    ((0, 0, 0), (0, 0, 0)), [[0, 0], [0, 0]], ((0, 0), None), (None, (0, 0)), ((), ()), ((0,), (0, 0, 0)),
+] + [((0, 0), costs) for costs in COSTS] + [(costs, (1000, 0)) for costs in COSTS]
+
+# Values that are not entries of a record of SET_AND_INCREASE.
+ENTRIES = [
+    None, True, 0, "", "fall", b"fall", [], ["fall"], {}, (), ("fall", 0), ("fall", None), ("fall", 0, 0), ("cut",),
+    ("lose",), ("late", 0), ("do",), ("Fall",), (None,), (0,), (("fall",),), object(), Strange(), (Strange(),),
+    (Strange(), 0), (Strange(), 0, 0), (b"fall",), {"fall"}, len,
+    ("timeout",), ("timeout", 2), ("timeout", -1), ("timeout", 3), ("timeout", None), ("timeout", False),
+    ("timeout", True), ("timeout", "0"), ("timeout", (0,)), ("timeout", [0]), ("timeout", 0, 0), ("timeout", Strange()),
+    ["timeout", 0], ("Timeout", 0),
+    ("answer",), ("answer", 0), ("answer", 0, 10), ("answer", 0, -1), ("answer", 0, None), ("answer", 0, False),
+    ("answer", 0, True), ("answer", 0, "0"), ("answer", 0, Strange()), ("answer", 2, 0), ("answer", 3, 0),
+    ("answer", -1, 0), ("answer", None, 0), ("answer", False, 0), ("answer", True, 0), ("answer", "0", 0),
+    ("answer", Strange(), 0), ("answer", (0,), 0), ("answer", 0, 0, 0), ["answer", 0, 0], ("answer", [0], 0),
+    ("return",), ("return", 10), ("return", -1), ("return", None), ("return", False), ("return", True), ("return", "0"),
+    ("return", Strange()), ("return", 0, 0), ["return", 0], ("return", "a"), ("return", (0,)),
+    ("stop", 0), ("stop", 0, 0), ("stop",), ("if", 0), ("call", 0, 0), ("go", 0),
+]
+
+RECORDS = [
+    None, True, 0, "", "fall", b"", {}, {0: ("fall",)}, set(), frozenset(), {("fall",)}, ("fall",), ("timeout", 0),
+    ("answer", 0, 0), ("return", 0), object(), Strange(), range(1), iter([]), len, [["fall"]], [[]], [()], ((),),
+] + [[entry] for entry in ENTRIES] + [[("fall",), ("answer", 1, 9), entry] for entry in ENTRIES] + [
+    (("timeout", 1), entry, ("return", 0)) for entry in ENTRIES
+]
+
+
 def replaced(values, index, value):
     """A tuple with another item at an index."""
     return values[:index] + (value,) + values[index + 1:]
@@ -195,6 +231,33 @@ def states(good):
         found.append(replaced(good, 6, wrong))
     for wrong in [None, -1, 10, True, False, "0", (0,), Strange()]:
         found.append(replaced(replaced(good, 2, None), 6, wrong))
+    return found
+
+
+def joint_states(good):
+    """Values that do not have the form of a joint state.
+
+    `good` is one of workflows with the name a and a call step 0 only, on (COUNTER,), where the second has a key on it;
+    no client has returned in it.
+    """
+    found = list(ANYTHING) + [list(good), good[:2], good + (good[2],), good[::-1], (good[0], good[1], None)]
+    found += [(good[0], (good[0],) + good[1], (good[0],) + good[2])]
+    found += [replaced(good, 0, value) for value in situations((COUNTER,))]
+    for at in (1, 2):
+        part = good[at]
+        parts = list(ANYTHING) + [list(part), part[:5], part + (None,), part[1:], (good[0],) + part]
+        parts += [replaced(part, 0, value) for value in [None, [], 0, ((1, 0),), ((0, 10),), ((0, True),), (0,)]]
+        parts += [replaced(part, 1, value) for value in [None, -1, 2, True, False, "0", (0,), Strange()]]
+        for values in [(), (("a", 10),), (("a", False),), (("b", 0),), (("a", 0), ("b", 0)), [("a", 0)], "a", None]:
+            parts += [replaced(part, 2, values), replaced(part, 3, (0, values))]
+        parts += [replaced(part, 3, value) for value in [None, (), (0,), (2, part[2]), (True, part[2]), [0, part[2]]]]
+        parts += [replaced(part, 4, value) for value in [None, [], 0, (1,), (False,), (0, 0), (None,), Strange()]]
+        parts += [replaced(part, 5, value) for value in [0, 5, False, "", 10, Strange()]]
+        parts += [replaced(replaced(part, 1, None), 5, value) for value in [None, True, 10, -1, "0", Strange()]]
+        found += [replaced(good, at, value) for value in parts]
+    # The keys are those of the second client.
+    found.append(replaced(good, 1, replaced(good[1], 0, ((0, 0),))))
+    found.append(replaced(good, 2, replaced(good[2], 4, (0,))))
     return found
 
 
