@@ -83,7 +83,7 @@ class Duo:
 
     def is_state(self, value):
         """Tell whether any value has the form of a joint state."""
-        if not is_tuple(value, 3, 3) or not all([is_tuple(part, 6, 6) for part in value[1:]]):
+        if not is_tuple(value, 3, 3) or not all([isinstance(part, tuple) for part in value[1:]]):
             return False
         return all([self.machines[client].is_state(alone(value, client)) for client in range(2)])
 
