@@ -54,11 +54,16 @@ def entry_of(workflow, state, event, reached):
     return None
 
 
+def entries_of(workflow, states, events):
+    """Return the entries that events write, for the state before the first one and the states after each of them."""
+    found = [entry_of(workflow, states[at], event, states[at + 1]) for at, event in enumerate(events)]
+    return [entry for entry in found if entry is not None]
+
+
 def record_of(system, workflow, protection, situation, events):
     """Return the record that a run writes."""
     states = replay(system, workflow, protection, situation, events)
-    found = [entry_of(workflow, states[at], event, states[at + 1]) for at, event in enumerate(events)]
-    return [entry for entry in found if entry is not None]
+    return entries_of(workflow, states, events)
 
 
 class Reader:

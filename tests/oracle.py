@@ -1,4 +1,4 @@
-"""An independent, slow implementation of points 2 to 18, written from the document alone.
+"""An independent, slow implementation of points 2 to 20, written from the document alone.
 
 It keeps a run in mutable dicts and sets, tries every thinkable event in every state, and finds
 distances with Dijkstra's algorithm over the explored graph. Two clients are two such runs that
@@ -445,3 +445,33 @@ def explains(system, workflow, protection, situation, events, faults, entries):
     if follow(system, workflow, protection, situation, events, faults) is None:
         return False
     return record(system, workflow, protection, situation, events) == list(entries)
+
+
+def rearranged(workflow, order):
+    """The straight workflow that an order denotes."""
+    return (*[workflow[step] for step in order], workflow[-1])
+
+
+def every_situation(system):
+    return list(itertools.product(*[range(len(service)) for service in system]))
+
+
+def equivalent(system, workflow):
+    """The equivalent orders of a straight workflow, in ascending order."""
+    found = set()
+    for order in itertools.permutations(calls(workflow)):
+        other = rearranged(workflow, order)
+        if not any(plain(system, workflow, s) != plain(system, other, s) for s in every_situation(system)):
+            found.add(order)
+    return sorted(found)
+
+
+def best(system, workflow, situations, faults, weights):
+    """The best order with its cheapest protection and the cost, as the least of all triples."""
+    options = []
+    for order in equivalent(system, workflow):
+        moved = tuple(tuple(costs[step] for step in order) for costs in weights)
+        protection, cost, _ = cheapest(system, rearranged(workflow, order), situations, faults, moved, ((), ()))
+        options.append((cost, order, protection))
+    cost, order, protection = min(options)
+    return order, protection, cost

@@ -77,6 +77,32 @@ False
 >>> examine((counter,), workflow, ((), ()), [(2,)], ('fall',), [('answer', 0, 0), ('answer', 1, 2)]).index
 1
 """,
+    """
+>>> from retrykeys.executions import Execution
+>>> execution = Execution((counter,), workflow, ((), ()), (2,))
+>>> first = execution.apply(('do',))
+>>> second = execution.apply(('lose',))
+>>> third = execution.apply(('do',))
+>>> fourth = execution.apply(('do',))
+>>> (fourth[0], execution.outcome(), execution.record())
+((2,), ((2,), 2), [('answer', 0, 0), ('timeout', 1), ('answer', 1, 2), ('return', 2)])
+""",
+    """
+>>> from retrykeys.ordering import equivalent_orders
+>>> workflow = (('call', 0, 2, 'a'), ('call', 0, 2, 'b'), ('call', 0, 1, 'c'), ('return', 'a'))
+>>> equivalent_orders((counter,), workflow)
+[(0, 1, 2), (0, 2, 1), (1, 0, 2)]
+""",
+    """
+>>> from retrykeys.texts import written
+>>> written(((((0, 0),),),), (('call', 0, 0, 'a'), ('return', 'a')), ((0,), ()))
+'service\\n  0/0\\nworkflow\\n  call 0 0 a\\n  return a\\nkeys 0\\ncheckpoints\\n'
+""",
+    """
+>>> from retrykeys.encoding import encode_events
+>>> encode_events([('do',), ('cut',), ('late', 3)])
+'000207'
+""",
 ]
 
 

@@ -6,13 +6,17 @@ import unittest
 from retrykeys import errors
 from retrykeys.costs import Cheapest, cheapest, protection_cost
 from retrykeys.deciding import Insufficient, Sufficient, decide, tolerance, weakest
+from retrykeys.encoding import decode_events, encode_events
+from retrykeys.executions import Execution
 from retrykeys.families import (
     Family, breaches, family, minimal_protections, protections, robust_protections, sufficient_protections,
 )
+from retrykeys.ordering import best_order, equivalent_orders, reorder
 from retrykeys.pairs import Interfering, Isolated, decide_pair, initial_joint, next_joint
 from retrykeys.records import Explained, Unexplained, examine, possible_situations, record_of
 from retrykeys.runs import initial_state, next_state, possible_events, replay
 from retrykeys.services import commuting, execute, repeatable
+from retrykeys.texts import read, written
 from retrykeys.workflows import call_steps, calm_steps, plain
 from tests import wrong
 from tests.samples import COUNTER, SET_AND_INCREASE, SWITCH, TRIVIAL
@@ -52,6 +56,13 @@ PAIRS_OF_PROTECTIONS = ("InvalidProtection", (((), (0,)), ((0,), ())), wrong.ANY
 ] + [pair for bad in wrong.protections([0], 2) for pair in ((((), ()), bad), (bad, ((), ())))])
 JOINT_STATES = ("InvalidState", JOINT, wrong.joint_states(JOINT))
 
+CROOKED = ("InvalidWorkflow", SET_AND_INCREASE, wrong.CROOKED)
+ORDERS = ("InvalidOrder", (1, 0), wrong.ORDERS)
+EVENTS = ("InvalidEvent", ("do",), wrong.EVENTS)
+EVENT_FORMS = ("InvalidEvent", [("late", 9)], [None, 0, "", "do", {}, ("do",), [None], [["do"]], [("late", True)]])
+TEXTS = ("ParseError", "service\n  0/0\nworkflow\n  return a\nkeys\ncheckpoints\n", wrong.NO_TEXTS + ["", "service\n"])
+CODES = ("DecodeError", "0d", wrong.NO_TEXTS + ["0", "0e", "0D", " 00"])
+
 # For each function: the arguments, in the order of the checks, each with its place among the parameters.
 # An argument may be checked twice (a workflow may be invalid, or too large).
 FUNCTIONS = {
@@ -68,6 +79,14 @@ FUNCTIONS = {
     next_joint: [(0, SYSTEMS), (1, PAIRS_OF_WORKFLOWS), (1, LARGE_PAIRS), (2, PAIRS_OF_PROTECTIONS),
                  (3, JOINT_STATES), (4, (None, (0, ("do",)), wrong.EVENTS))],
     record_of: [(0, SYSTEMS), (1, WORKFLOWS), (2, PROTECTIONS), (3, SITUATION), (4, EVENT_LISTS)],
+    Execution: [(0, SYSTEMS), (1, WORKFLOWS), (2, PROTECTIONS), (3, SITUATION)],
+    reorder: [(0, LONE_WORKFLOWS), (0, CROOKED), (1, ORDERS)],
+    equivalent_orders: [(0, SYSTEMS), (1, WORKFLOWS), (1, CROOKED)],
+    best_order: [(0, SYSTEMS), (1, WORKFLOWS), (1, CROOKED), (2, SITUATIONS), (3, FAULTS), (4, WEIGHTS)],
+    written: [(0, SYSTEMS), (1, WORKFLOWS), (2, PROTECTIONS)],
+    read: [(0, TEXTS)],
+    encode_events: [(0, EVENT_FORMS)],
+    decode_events: [(0, CODES)],
 }
 DECISION = [(0, SYSTEMS), (1, WORKFLOWS), (2, PROTECTIONS), (3, SITUATIONS), (4, FAULTS)]
 SUFFICIENT = Sufficient([[STATE]])
@@ -110,6 +129,20 @@ def unexplained_is_correct(*arguments):
     return Unexplained(0, [[STATE]]).is_correct(*arguments)
 
 
+def execution():
+    return Execution(SYSTEM, SET_AND_INCREASE, PROTECTION, (2,))
+
+
+def execution_possible(faults):
+    return execution().possible(faults)
+
+
+def execution_apply(event):
+    return execution().apply(event)
+
+
+FUNCTIONS[execution_possible] = [(0, FAULTS)]
+FUNCTIONS[execution_apply] = [(0, EVENTS)]
 CHEAPEST = [(0, SYSTEMS), (1, WORKFLOWS), (1, LARGE), (2, SITUATIONS), (3, FAULTS), (4, WEIGHTS)]
 PAIR = [(0, SYSTEMS), (1, PAIRS_OF_WORKFLOWS), (1, LARGE_PAIRS), (2, PAIRS_OF_PROTECTIONS), (3, SITUATIONS), (4, FAULTS)]
 FUNCTIONS[cheapest] = CHEAPEST
@@ -178,6 +211,9 @@ class Wrong(unittest.TestCase):
             self.fails("InvalidWorkflow", plain, dict(enumerate([system, workflow, (0, 0)])))
             self.fails("InvalidWorkflow", decide, dict(enumerate([system, workflow, None, [(0, 0)], ()])))
             self.fails("InvalidWorkflow", family, dict(enumerate([system, workflow, [(0, 0)], ()])))
+            self.fails("InvalidWorkflow", Execution, dict(enumerate([system, workflow, None, (0, 0)])))
+            self.fails("InvalidWorkflow", written, dict(enumerate([system, workflow, None])))
+            self.fails("InvalidWorkflow", equivalent_orders, dict(enumerate([system, workflow])))
             self.assertEqual(call_steps(workflow), [at for at, step in enumerate(workflow) if step[0] == "call"])
 
     def test_situations_of_two_services(self):

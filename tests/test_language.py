@@ -24,12 +24,17 @@ INTERFACE = {
     "costs": ["protection_cost", "Cheapest", "cheapest"],
     "pairs": ["initial_joint", "next_joint", "decide_pair", "Isolated", "Interfering"],
     "records": ["record_of", "examine", "Explained", "Unexplained", "possible_situations"],
+    "executions": ["Execution"],
+    "ordering": ["reorder", "equivalent_orders", "best_order", "Reordered"],
+    "texts": ["written", "read"],
+    "encoding": ["encode_events", "decode_events"],
 }
 METHODS = {
     name: ["is_correct"] for name in [
         "Sufficient", "Insufficient", "Family", "Cheapest", "Isolated", "Interfering", "Explained", "Unexplained",
     ]
 }
+METHODS["Execution"] = ["apply", "undo", "possible", "state", "history", "record", "outcome"]
 
 LIBRARY = {"itertools": ["combinations", "permutations", "product"]}
 BUILTINS = """
@@ -44,7 +49,7 @@ NOT_USED = (
     ast.GeneratorExp, ast.Div, ast.MatMult, ast.Await, ast.Yield, ast.YieldFrom, ast.NamedExpr, ast.Starred,
     ast.Lambda, ast.Set,
 )
-LIST_METHODS = "append extend reverse pop insert index count".split()
+LIST_METHODS = "append extend reverse pop insert index count get join split startswith".split()
 DOUBLE = ["__init__", "__eq__"]
 
 

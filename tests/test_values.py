@@ -4,9 +4,12 @@ import unittest
 
 from retrykeys.costs import Cheapest, cheapest, protection_cost
 from retrykeys.deciding import Insufficient, Sufficient, decide, weakest
+from retrykeys.encoding import decode_events, encode_events
+from retrykeys.executions import Execution
 from retrykeys.families import (
     Family, breaches, family, minimal_protections, protections, robust_protections, sufficient_protections,
 )
+from retrykeys.ordering import Reordered, best_order, equivalent_orders, reorder
 from retrykeys.pairs import Interfering, Isolated, decide_pair, initial_joint, next_joint
 from retrykeys.records import Explained, Unexplained, examine, possible_situations, record_of
 from retrykeys.runs import initial_state, possible_events, replay
@@ -52,7 +55,8 @@ class Values(unittest.TestCase):
             lambda: decide_pair(*APART).states, lambda: decide_pair(*APART).states[1],
             lambda: decide_pair(*TOGETHER).events, lambda: examine(*TOLD).events, lambda: examine(*UNTOLD).states,
             lambda: examine(*UNTOLD).states[1], lambda: possible_situations(*TOLD),
-            lambda: record_of(*TOLD[:3], (2,), [DO, CUT]),
+            lambda: record_of(*TOLD[:3], (2,), [DO, CUT]), lambda: equivalent_orders(SYSTEM, READ),
+            lambda: decode_events("0002"), lambda: Execution(SYSTEM, READ, ((), ()), (2,)).possible(()),
         ]
         for call in calls:
             first = call()
@@ -126,6 +130,12 @@ class Values(unittest.TestCase):
         self.assertEqual(events, [DO, CUT, DO])
         self.assertEqual(record, [("answer", 0, 0), ("fall",)])
 
+    def test_arguments_of_orders_and_events_are_not_changed(self):
+        situations, events = [(2,), (0,)], [DO, CUT, DO]
+        best_order(SYSTEM, SET_AND_INCREASE, situations, ("fall",), PRICED[4])
+        encode_events(events)
+        self.assertEqual((situations, events), ([(2,), (0,)], [DO, CUT, DO]))
+
     def test_arguments_are_not_kept(self):
         situations, record = [(2,), (0,)], [("answer", 0, 0), ("timeout", 1)]
         found = examine(*UNTOLD[:3], situations, UNTOLD[4], record)
@@ -151,6 +161,12 @@ class Values(unittest.TestCase):
                 self.assertTrue(examine(*case).is_correct(*other))
                 self.assertEqual(possible_situations(*other), possible_situations(*case))
             self.assertEqual(record_of(*TOLD[:3], (2,), kind([DO, CUT])), [("answer", 0, 0), ("fall",)])
+
+    def test_tuples_and_lists_of_orders_and_events(self):
+        for kind in (list, tuple):
+            found = best_order(SYSTEM, SET_AND_INCREASE, kind([(2,), (0,)]), ("loss",), PRICED[4])
+            self.assertEqual(found, Reordered((0, 1), ((1,), ()), 5))
+            self.assertEqual(encode_events(kind([DO, CUT])), "0002")
 
     def test_is_correct_changes_no_fields(self):
         for case in (GOOD, BAD):
@@ -250,6 +266,15 @@ class Values(unittest.TestCase):
             self.assertTrue(examine(**one, **many, record=record).is_correct(**one, **many, record=record))
         self.assertEqual(possible_situations(**one, **many, record=TOLD[5]), possible_situations(*TOLD))
 
+    def test_keywords_of_orders(self):
+        found = Reordered(order=(0,), protection=((), ()), cost=0)
+        self.assertEqual((found.order, found.protection, found.cost), ((0,), ((), ()), 0))
+        case = {"system": SYSTEM, "workflow": SET_AND_INCREASE}
+        self.assertEqual(equivalent_orders(**case), [(0, 1)])
+        found = best_order(**case, situations=[(2,)], faults=("loss",), weights=PRICED[4])
+        self.assertEqual([type(field) for field in (found.order, found.protection, found.cost)], [tuple, tuple, int])
+        self.assertEqual(reorder(workflow=READ, order=(0,)), READ)
+
     def test_keywords(self):
         self.assertEqual(Sufficient(states=[[1]]).states, [[1]])
         found = Insufficient(situation=(0,), events=[DO])
@@ -272,6 +297,8 @@ class Values(unittest.TestCase):
             Interfering((0,), []), Interfering((1,), []), Interfering((0,), [DO]), Interfering((1,), [DO]),
             Explained((0,), []), Explained((1,), []), Explained((0,), [DO]), Explained((1,), [DO]),
             Unexplained(0, []), Unexplained(1, []), Unexplained(0, [[]]), Unexplained(0, [[1]]), Unexplained(1, [[1]]),
+            Reordered((0,), ((), ()), 0), Reordered((0,), ((), ()), 1), Reordered((0,), ((0,), ()), 0),
+            Reordered((), ((), ()), 0), Reordered((1, 0), ((0,), ()), 1),
         ]
         for index, first in enumerate(different):
             for other, second in enumerate(different):
@@ -288,6 +315,7 @@ class Values(unittest.TestCase):
         self.assertEqual(Interfering((0,), [DO]), Interfering((0,), [DO]))
         self.assertEqual(Explained((0,), [DO]), Explained((0,), [DO]))
         self.assertEqual(Unexplained(1, [[1]]), Unexplained(1, [[1]]))
+        self.assertEqual(Reordered((1, 0), ((0,), ()), 1), Reordered((1, 0), ((0,), ()), 1))
 
     def test_equality_uses_the_current_fields(self):
         first, second = Sufficient([[1]]), Sufficient([[1, 2]])
@@ -323,6 +351,11 @@ class Values(unittest.TestCase):
         second.index = 0
         self.assertNotEqual(first, second)
         second.states[0].pop()
+        self.assertEqual(first, second)
+        first, second = Reordered((0, 1), ((), ()), 0), Reordered((1, 0), ((0,), ()), 1)
+        second.order, second.protection = (0, 1), ((), ())
+        self.assertNotEqual(first, second)
+        second.cost = 0
         self.assertEqual(first, second)
 
 

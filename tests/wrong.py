@@ -192,6 +192,26 @@ RECORDS = [
 ]
 
 
+# Values that are not orders of a workflow with two call steps.
+ORDERS = ANYTHING + [
+    [0, 1], (0,), (1,), (0, 0), (1, 1), (0, 2), (2, 1), (0, 1, 2), (0, 1, 1), (-1, 0), (0, -1), (True, 0), (0, True),
+    (False, 1), (1, False), (0, None), ("0", "1"), ("0", 1), ((0,), (1,)), (0, (1,)), ((0, 1),), {0, 1}, {0: 0, 1: 1},
+    range(2), "01", b"01", (0, Strange()), (Strange(), 1), ([0], [1]), (0, [1]),
+]
+
+# Valid workflows that are not straight.
+CROOKED = [
+    (END, END), (END, CALL, END), (CALL, END, END), (CALL, END, CALL, END), (CALL,) * 4 + (END,), (("go", 1), END),
+    (CALL, ("go", 2), END), (("go", 1), CALL, END), (("if", "a", 0, 1), END), (CALL, ("if", "a", 0, 2), CALL, END),
+    (("if", "a", 0, 2), CALL, END), (CALL, CALL, CALL, ("go", 4), END), (CALL, CALL, CALL, CALL, END, END),
+]
+
+# Values that are not strings, for what is read from one.
+NO_TEXTS = [value for value in ANYTHING if not isinstance(value, str)] + [
+    [""], ("",), ["service"], {"": ""}, b"00", b"service\n  0/0\n", ("00",), ["00"], (48, 48), [0, 1], 10, 0x00,
+]
+
+
 def replaced(values, index, value):
     """A tuple with another item at an index."""
     return values[:index] + (value,) + values[index + 1:]
